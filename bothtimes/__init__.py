@@ -1,0 +1,1 @@
+"""What was known when: corrections, keys and references of tables over days."""
