@@ -93,3 +93,54 @@ def on_day(line, day):
 def chances(many, seed):
     """As many sources of numbers, the same ones each time."""
     return [random.Random(seed * 100003 + number) for number in range(many)]
+
+
+PLAN = (
+    ("staff", ("team", "pay"), (("team", "team"),)),
+    ("tag", (), ()),
+    ("team", ("lead",), (("lead", "staff"),)),
+)
+
+
+def random_step(chance):
+    """A step of PLAN over few days, of few keys and worths."""
+    table = chance.choice(["staff", "tag", "team"])
+    key = chance.choice(["a", "b"])
+    low = chance.randrange(10)
+    high = chance.choice([None, low + 1 + chance.randrange(5), low + 1 + chance.randrange(5)])
+    if chance.random() < 0.35:
+        return ("cut", table, key, low, high)
+    worths = {
+        "staff": (chance.choice([None, "x"]), chance.choice([None, 1, "y"])),
+        "tag": (),
+        "team": (chance.choice([None, "x", "y"]),),
+    }
+    return ("put", table, key, worths[table], low, high)
+
+
+def random_deeds(chance, most=8):
+    """Deeds of PLAN, on few known days, some of them on the same one."""
+    day = 0
+    deeds = []
+    for number in range(chance.randrange(most)):
+        day += chance.choice([0, 0, 1, 3])
+        deeds.append((day, tuple(random_step(chance) for place in range(1 + chance.randrange(4)))))
+    return tuple(deeds)
+
+
+def last_told(deeds, table, key, day, known):
+    """The numbers of the last step known that covers the day, and that step, by a plain walk; None without one."""
+    last = None
+    for at, (told, steps) in enumerate(deeds):
+        for place, step in enumerate(steps):
+            *named, low, high = step
+            inside = low <= day and (high is None or day < high)
+            if named[1:3] == [table, key] and inside and (known is None or told <= known):
+                last = (at, place, step)
+    return last
+
+
+def worths_on(deeds, table, key, day, known):
+    """What the key has on the day, as known then, by a plain walk."""
+    last = last_told(deeds, table, key, day, known)
+    return last[2][3] if last is not None and last[2][0] == "put" else None
