@@ -54,6 +54,18 @@ def count_begun(line, day):
     return least
 
 
+def first_bare(line, day):
+    """Tell the first day, from this one on, on which the line has nothing; None without one."""
+    at = max(count_begun(line, day) - 1, 0)
+    while at < len(line) and line[at][0] <= day:
+        end = line[at][1]
+        if end is None:
+            return None
+        day = max(day, end)
+        at += 1
+    return day
+
+
 def painted(line, what, *, low=FIRST, high=None):
     """Tell the line with this on the days of this span; None for nothing there."""
     if high is not None and high <= low:

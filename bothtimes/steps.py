@@ -13,6 +13,13 @@ def worths_of(step):
     return step[3] if step[0] == "put" else None
 
 
+def step_of(table, key, low, high, worths):
+    """Tell the step that puts these worths on these days, or cuts the row where they are None."""
+    if worths is None:
+        return ("cut", table, key, low, high)
+    return ("put", table, key, worths, low, high)
+
+
 def covers(step, day):
     """Tell whether a step tells of the day."""
     low, high = span_of(step)

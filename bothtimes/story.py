@@ -13,6 +13,17 @@ def line_of(deeds, table, key, *, known=None):
     return line
 
 
+def known_lines(deeds, known):
+    """Tell the line of each (table, key) that known steps name, in a dict; of some of these it may be empty."""
+    lines = {}
+    for told, steps in known_deeds(deeds, known):
+        for step in steps:
+            place = (step[1], step[2])
+            low, high = span_of(step)
+            lines[place] = painted(lines.get(place, ()), worths_of(step), low=low, high=high)
+    return lines
+
+
 def rows_at(deeds, table, day, *, known=None):
     """Tell the rising (key, worths) that hold on the day, as known on a day, or by all deeds."""
     held = {}

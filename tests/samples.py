@@ -144,3 +144,71 @@ def worths_on(deeds, table, key, day, known):
     """What the key has on the day, as known then, by a plain walk."""
     last = last_told(deeds, table, key, day, known)
     return last[2][3] if last is not None and last[2][0] == "put" else None
+
+
+def words(many):
+    """As many unlike words, rising."""
+    return ["abcdefghijklmnopqrstuvwxyz"[number // 26] + "abcdefghijklmnopqrstuvwxyz"[number % 26]
+            for number in range(many)]
+
+
+def ring(many, columns=("to",)):
+    """A plan of tables of which each refers, by all these columns, to the next one, the last to the first."""
+    names = ["ta", "tb", "tc", "td", "te", "tf"][:many]
+    return tuple((name, columns, tuple((column, names[(at + 1) % many]) for column in sorted(columns)))
+                 for at, name in enumerate(names))
+
+
+def random_row_step(chance, plan, keys, days=10, cuts=0.2):
+    """A step of any plan over few days: words in its columns are mostly keys."""
+    table, columns, references = chance.choice(plan)
+    key = chance.choice(keys)
+    low = chance.choice([0, 0, chance.randrange(days)])
+    high = chance.choice([None, None, low + 1 + chance.randrange(days)])
+    if chance.random() < cuts:
+        return ("cut", table, key, low, high)
+    referring = [column for column, target in references]
+    worths = tuple(chance.choice([None] + keys) if column in referring else chance.choice([None, -3, 2, 7] + keys[:2])
+                   for column in columns)
+    return ("put", table, key, worths, low, high)
+
+
+def random_deeds_of(chance, plan, keys, deeds=6, steps=4, cuts=0.2):
+    """As many deeds of any plan on few known days, some of them on the same one."""
+    day = 0
+    told = []
+    for number in range(deeds):
+        day += chance.choice([0, 1, 3])
+        told.append((day, tuple(random_row_step(chance, plan, keys, cuts=cuts)
+                                for place in range(1 + chance.randrange(steps)))))
+    return tuple(told)
+
+
+def plain_painting(steps, days=21):
+    """What steps of few days come to, day by day; the last day stands for all behind it."""
+    pieces = []
+    for table, key in sorted({step[1:3] for step in steps}):
+        told = [last_told(((0, steps),), table, key, day, None) for day in range(days)]
+        held = [None if last is None else last[2][:1] + last[2][3:-2] for last in told]
+        pieces += [(table, key, low, high, what[1] if what[0] == "put" else None)
+                   for low, high, what in line_from(held, True)]
+    return tuple(pieces)
+
+
+def far(deeds, factor=10 ** 10):
+    """The same deeds with all days so many times as far."""
+    def later(day):
+        return None if day is None else day * factor
+    return tuple((day * factor, tuple(step[:-2] + (later(step[-2]), later(step[-1])) for step in steps))
+                 for day, steps in deeds)
+
+
+def full_deeds(plan=None):
+    """Sixty deeds of two hundred steps in all, of far days, that follow one another closely."""
+    plan = PLAN if plan is None else plan
+    chance = random.Random(77)
+    deeds = []
+    for number, many in enumerate([4] * 20 + [3] * 40):
+        steps = tuple(random_row_step(chance, plan, words(8), days=90, cuts=0.1) for place in range(many))
+        deeds.append((number // 2, steps))
+    return far(tuple(deeds), 10 ** 9)

@@ -29,6 +29,13 @@ SIGNATURES = {
         "told_by": "(deeds, table, key, day, *, known=None)",
         "painters": "(deeds, table, key, *, known=None)",
     },
+    "settling": {"settled": "(deeds, day)"},
+    "references": {"broken": "(plan, deeds, *, known=None)"},
+    "patches": {
+        "patch": "(deeds, *, early=None, late=None)",
+        "followed": "(one, other)",
+        "undone": "(one)",
+    },
 }
 
 

@@ -2,7 +2,7 @@
 
 import unittest
 
-from bothtimes.lines import bare, beside, found, is_line, painted, within
+from bothtimes.lines import bare, beside, first_bare, found, is_line, painted, within
 from tests.samples import LAST, Odd, chances, nested, odd_things, on_day, random_line
 
 A = ("a",)
@@ -265,6 +265,13 @@ class Bare(unittest.TestCase):
                 inside = low <= day and (high is None or day < high)
                 held = any(start <= day and (end is None or day < end) for start, end in spans)
                 self.assertEqual(held, inside and on_day(line, day) is None)
+
+    def test_the_first_day_with_nothing(self):
+        for chance in chances(300, 13):
+            line = random_line(chance)
+            for day in range(14):
+                spans = bare(line, low=day)
+                self.assertEqual(first_bare(line, day), spans[0][0] if spans else None)
 
 
 class AtOnce(unittest.TestCase):
