@@ -36,6 +36,10 @@ SIGNATURES = {
         "followed": "(one, other)",
         "undone": "(one)",
     },
+    "shortest": {"shortest": "(table, key, before, after)"},
+    "questions": {"is_question": "(plan, thing)", "columns_of": "(plan, question)"},
+    "answers": {"answer": "(plan, deeds, question, day, *, known=None)"},
+    "spans": {"spans": "(plan, deeds, question, *, known=None)", "knowns": "(plan, deeds, question, day)"},
 }
 
 
