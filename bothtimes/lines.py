@@ -143,3 +143,9 @@ def bare(line, *, low=FIRST, high=None):
     if high is None or start < high:
         spans.append((start, high))
     return tuple(spans)
+
+
+def filled(line, low, high):
+    """List pieces (low, high, what), rising, of all days of this span; what is None where the line has nothing."""
+    gaps = [(first, last, None) for first, last in bare(line, low=low, high=high)]
+    return sorted(clipped(line, low, high) + gaps, key=lambda piece: piece[0])

@@ -8,7 +8,11 @@ from bothtimes.story import known_lines
 def patch(deeds, *, early=None, late=None):
     """Tell what is known on late, or by all deeds, otherwise than on early, or than nothing."""
     ahead = {} if early is None else known_lines(deeds, early)
-    behind = known_lines(deeds, late)
+    return patch_between(ahead, known_lines(deeds, late))
+
+
+def patch_between(ahead, behind):
+    """Tell the patch from lines by (table, key) to others."""
     pieces = []
     for place in places_of(ahead, behind):
         for low, high, here, there in beside(ahead.get(place, ()), behind.get(place, ())):

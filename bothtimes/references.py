@@ -7,7 +7,11 @@ from bothtimes.story import known_lines
 
 def broken(plan, deeds, *, known=None):
     """Tell the least (day, table, key, column) at which a reference breaks, or None."""
-    lines = known_lines(deeds, known)
+    return least_break(plan, known_lines(deeds, known))
+
+
+def least_break(plan, lines):
+    """Tell the least (day, table, key, column) at which a reference of lines by (table, key) breaks, or None."""
     breaks = []
     for table, columns, references in plan:
         for column, target in references:

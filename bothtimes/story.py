@@ -15,13 +15,17 @@ def line_of(deeds, table, key, *, known=None):
 
 def known_lines(deeds, known):
     """Tell the line of each (table, key) that known steps name, in a dict; of some of these it may be empty."""
-    lines = {}
-    for told, steps in known_deeds(deeds, known):
-        for step in steps:
-            place = (step[1], step[2])
-            low, high = span_of(step)
-            lines[place] = painted(lines.get(place, ()), worths_of(step), low=low, high=high)
-    return lines
+    return lines_behind({}, [step for told, steps in known_deeds(deeds, known) for step in steps])
+
+
+def lines_behind(lines, steps):
+    """Tell what lines by (table, key) come to behind these steps, in a dict of its own."""
+    behind = {place: lines[place] for place in lines}
+    for step in steps:
+        place = (step[1], step[2])
+        low, high = span_of(step)
+        behind[place] = painted(behind.get(place, ()), worths_of(step), low=low, high=high)
+    return behind
 
 
 def rows_at(deeds, table, day, *, known=None):

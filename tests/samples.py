@@ -146,6 +146,21 @@ def worths_on(deeds, table, key, day, known):
     return last[2][3] if last is not None and last[2][0] == "put" else None
 
 
+def plain_broken(plan, deeds, known, days):
+    """The least break by a walk over all days told."""
+    keys = sorted({step[2] for day, steps in deeds for step in steps})
+    for day in days:
+        held = {(table[0], key): worths_on(deeds, table[0], key, day, known) for table in plan for key in keys}
+        for table, columns, references in plan:
+            for key in keys:
+                for column, target in references:
+                    worths = held[table, key]
+                    word = None if worths is None else worths[columns.index(column)]
+                    if word is not None and held.get((target, word)) is None:
+                        return (day, table, key, column)
+    return None
+
+
 def words(many):
     """As many unlike words, rising."""
     return ["abcdefghijklmnopqrstuvwxyz"[number // 26] + "abcdefghijklmnopqrstuvwxyz"[number % 26]

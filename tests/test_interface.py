@@ -40,6 +40,35 @@ SIGNATURES = {
     "questions": {"is_question": "(plan, thing)", "columns_of": "(plan, question)"},
     "answers": {"answer": "(plan, deeds, question, day, *, known=None)"},
     "spans": {"spans": "(plan, deeds, question, *, known=None)", "knowns": "(plan, deeds, question, day)"},
+    "merging": {"merged": "(one, other)"},
+    "counts": {
+        "counted": "(spans)",
+        "fullest": "(spans)",
+        "empty": "(spans, *, low=0, high=None)",
+        "lasting": "(spans, *, low=0, high=None)",
+    },
+    "logs": {"log_text": "(deeds, *, words=('on', 'put', 'cut', 'end'))"},
+}
+METHODS = {
+    ("store", "Store"): {
+        "__init__": "(self, plan, *, most=60)",
+        "tell": "(self, day, steps)",
+        "restore": "(self, day, table, key, *, known, low=0, high=None)",
+        "correct": "(self, day, patch)",
+        "tell_all": "(self, deeds, *, each=None)",
+        "deeds": "(self)",
+        "line": "(self, table, key, *, known=None)",
+        "rows": "(self, table, day, *, known=None, only=None)",
+        "keep": "(self, name, question)",
+        "drop": "(self, name)",
+        "view": "(self, name)",
+        "touched": "(self, name)",
+        "views": "(self)",
+        "__len__": "(self)",
+        "__str__": "(self)",
+        "__repr__": "(self)",
+        "__eq__": "(self, other)",
+    },
 }
 
 
@@ -51,6 +80,14 @@ class Interface(unittest.TestCase):
                 made = getattr(module, name)
                 self.assertEqual(made.__module__, module.__name__, name)
                 self.assertEqual(str(inspect.signature(made)), signature, name)
+
+    def test_classes(self):
+        for (file, name), methods in METHODS.items():
+            module = importlib.import_module("bothtimes." + file)
+            made = getattr(module, name)
+            self.assertEqual(made.__module__, module.__name__, name)
+            for method, signature in methods.items():
+                self.assertEqual(str(inspect.signature(vars(made)[method])), signature, (name, method))
 
 
 if __name__ == "__main__":

@@ -134,5 +134,101 @@ class Words(unittest.TestCase):
                         self.assertNotIsInstance(given, ast.GeneratorExp, (name, node.lineno))
 
 
+def functions(tree):
+    return [node for node in ast.walk(tree) if isinstance(node, ast.FunctionDef)]
+
+
+def classes():
+    return [node for name, tree in trees() for node in tree.body if isinstance(node, ast.ClassDef)]
+
+
+class Names(unittest.TestCase):
+    def test_no_local_has_the_name_of_an_import_or_a_class(self):
+        for name, tree in trees():
+            taken = {given.name for module, given in imported(tree)}
+            taken |= {node.name for node in tree.body if isinstance(node, ast.ClassDef)}
+            for made in functions(tree):
+                inner = {node.arg for node in ast.walk(made) if isinstance(node, ast.arg)}
+                inner |= {node.id for node in ast.walk(made) if isinstance(node, ast.Name) and isinstance(node.ctx, ast.Store)}
+                self.assertEqual(inner & taken, set(), (name, made.name))
+
+    def test_no_name_is_a_method_and_an_attribute(self):
+        methods = {made.name for found in classes() for made in functions(found)}
+        reads = [node for name, tree in trees() for node in ast.walk(tree) if isinstance(node, ast.Attribute)]
+        set_ones = {node.attr for node in reads if isinstance(node.ctx, ast.Store)}
+        self.assertEqual(methods & set_ones, set())
+        for node in reads:
+            self.assertIn(node.attr, methods | set_ones | METHODS, node.lineno)
+
+    def test_no_keyword_for_methods_of_builtin_values(self):
+        for name, tree in trees():
+            for node in ast.walk(tree):
+                if isinstance(node, ast.Call) and getattr(node.func, "attr", "") in METHODS:
+                    self.assertEqual(node.keywords, [], (name, node.lineno))
+
+    def test_imports_are_used(self):
+        for name, tree in trees():
+            used = {node.id for node in ast.walk(tree) if isinstance(node, ast.Name)}
+            self.assertEqual({given.name for module, given in imported(tree)} - used, set(), name)
+
+
+class Refusals(unittest.TestCase):
+    def test_raised_on_the_spot(self):
+        own = {found.name for found in classes()}
+        for name, tree in trees():
+            for node in ast.walk(tree):
+                if isinstance(node, ast.Raise):
+                    self.assertIsInstance(node.exc, ast.Call, (name, node.lineno))
+                    self.assertIn(node.exc.func.id, own, (name, node.lineno))
+                    self.assertFalse([given for given in node.exc.args if isinstance(given, ast.Starred)])
+
+    def test_own_ones_alone_are_caught(self):
+        own = {found.name for found in classes()}
+        for name, tree in trees():
+            for node in ast.walk(tree):
+                if isinstance(node, ast.ExceptHandler):
+                    caught = node.type.elts if isinstance(node.type, ast.Tuple) else [node.type]
+                    self.assertTrue(all(part.id in own for part in caught), (name, node.lineno))
+
+    def test_finally_sets_plain_values(self):
+        for name, tree in trees():
+            for node in ast.walk(tree):
+                for row in node.finalbody if isinstance(node, ast.Try) else ():
+                    self.check_plain(row, (name, row.lineno))
+
+    def check_plain(self, row, where):
+        if isinstance(row, ast.If):
+            self.assertIsInstance(row.test.ops[0], (ast.Is, ast.IsNot), where)
+            self.assertIsNone(row.test.comparators[0].value, where)
+            for inner in row.body + row.orelse:
+                self.check_plain(inner, where)
+        else:
+            self.assertIsInstance(row, ast.Assign, where)
+            self.assertIsInstance(row.targets[0], (ast.Name, ast.Attribute), where)
+            self.assertIsInstance(row.value, (ast.Name, ast.Attribute, ast.Constant), where)
+
+
+class Dunders(unittest.TestCase):
+    def test_allowed_ones_that_end_in_a_plain_return(self):
+        for found in classes():
+            for made in functions(found):
+                if made.name.startswith("__"):
+                    self.assertIn(made.name, DUNDERS)
+                if made.name in ("__len__", "__str__", "__repr__"):
+                    self.assertEqual([type(row) for row in made.body], [ast.Return])
+                    told = made.body[0].value
+                    if made.name == "__len__":
+                        self.assertEqual(told.func.id, "len")
+                    else:
+                        self.assertTrue(isinstance(told, ast.JoinedStr) or told.func.id in ("str", "repr"))
+                if made.name == "__init__":
+                    self.assertFalse([node for node in ast.walk(made) if isinstance(node, ast.Return)])
+
+    def test_no_generators(self):
+        for name, tree in trees():
+            for node in ast.walk(tree):
+                self.assertNotIsInstance(node, (ast.Yield, ast.YieldFrom, ast.GeneratorExp), name)
+
+
 if __name__ == "__main__":
     unittest.main()

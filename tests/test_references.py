@@ -5,7 +5,7 @@ import unittest
 
 from bothtimes.plans import are_deeds, is_plan
 from bothtimes.references import broken
-from tests.samples import (LAST, chances, far, full_deeds, random_deeds_of, random_row_step, ring, words, worths_on)
+from tests.samples import (LAST, chances, far, full_deeds, plain_broken, random_deeds_of, random_row_step, ring, words)
 
 PLAN = (
     ("staff", ("team", "pay", "boss"), (("boss", "staff"), ("team", "team"))),
@@ -27,21 +27,6 @@ def team(low=0, high=None, key="red"):
 
 def member(low=0, high=None, key="ann", name="red", boss=None):
     return put("staff", key, (name, 5, boss), low, high)
-
-
-def plain_broken(plan, deeds, known, days):
-    """The least break by a walk over all days told."""
-    keys = sorted({step[2] for day, steps in deeds for step in steps})
-    for day in days:
-        held = {(table[0], key): worths_on(deeds, table[0], key, day, known) for table in plan for key in keys}
-        for table, columns, references in plan:
-            for key in keys:
-                for column, target in references:
-                    worths = held[table, key]
-                    word = None if worths is None else worths[columns.index(column)]
-                    if word is not None and held.get((target, word)) is None:
-                        return (day, table, key, column)
-    return None
 
 
 class Broken(unittest.TestCase):
