@@ -47,7 +47,12 @@ SIGNATURES = {
         "empty": "(spans, *, low=0, high=None)",
         "lasting": "(spans, *, low=0, high=None)",
     },
-    "logs": {"log_text": "(deeds, *, words=('on', 'put', 'cut', 'end'))"},
+    "logs": {
+        "log_text": "(deeds, *, words=('on', 'put', 'cut', 'end'))",
+        "come_up": "(plan, text, *, words=('on', 'put', 'cut', 'end'), most=60)",
+    },
+    "showing": {"show_plan": "(plan)", "show_question": "(question)"},
+    "reading": {"read_plan": "(text)", "read_question": "(plan, text)"},
 }
 METHODS = {
     ("store", "Store"): {
@@ -69,6 +74,7 @@ METHODS = {
         "__repr__": "(self)",
         "__eq__": "(self, other)",
     },
+    ("desk", "Desk"): {"__init__": "(self, text)", "say": "(self, line)"},
 }
 
 

@@ -80,7 +80,12 @@ class Refused(unittest.TestCase):
     def goes_on(self, store):
         """It takes deeds, keeps and drops as ever."""
         touched = store.touched("early")
-        self.assertEqual(store.tell_all(((3, (put("tag", "b"),)),)), ((("tag", "b", 0, None, None, ()),),))
+        bob = ("staff", "bob", 0, None, None, ANN)
+        self.assertEqual(store.tell_all(((3, (put("tag", "a"), staff("bob"))),)), ((bob, ("tag", "a", 0, None, None, ())),))
+        self.assertEqual(store.touched("early"), ((("bob", None, 5, None), 0, None, 1),))
+        home = {"day": 0, "table": "staff", "key": "ann", "column": "home"}
+        self.assertEqual(outcome(store.tell, 3, (cut("city", "ulm"),)), ("Broken", home))
+        store.tell(3, (put("tag", "b"),))
         self.assertEqual(store.touched("early"), ())
         self.assertNotEqual(touched, ())
         self.assertEqual(store.tell(LAST, (staff("zoe"),)), (("staff", "zoe", 0, None, None, ANN),))
@@ -150,6 +155,10 @@ class Refused(unittest.TestCase):
             self.assertEqual(told, wrong[0] if wrong else tuple(due))
             if wrong:
                 self.assertEqual(state(store), ahead)
+                again = Store(PLAN, most=8)
+                again.tell_all(store.deeds())
+                for deed in deeds:
+                    self.assertEqual(outcome(store.tell, *deed), outcome(again.tell, *deed))
         self.assertTrue(20 < refused < 70, refused)
 
 
@@ -234,7 +243,7 @@ class Each(unittest.TestCase):
                 self.assertEqual(state(store), ahead)
                 store.keep("new", ROWS)
                 store.drop("new")
-                store.tell_all(self.DEEDS)
+                self.assertEqual(store.tell_all(self.DEEDS), begun().tell_all(self.DEEDS))
                 self.assertEqual(len(store), 5)
 
     def test_busy_that_goes_out_of_each(self):
