@@ -44,7 +44,8 @@ def deed_from(rows, words):
     first = rows[0].split(" ")
     if len(first) != 2 or first[0] != words[0] or not is_day_text(first[1]):
         return None
-    if rows[-1] != f"{words[3]} {count_signs(rows[:-1])}":
+    signs = count_signs(rows[:-1])
+    if rows[-1] != f"{words[3]} {signs}":
         return None
     steps = [step_from(row.split(" "), words[1], words[2]) for row in rows[1:-1]]
     return None if None in steps else (int(first[1]), tuple(steps))
